@@ -1,0 +1,1 @@
+"""Tautroads: roads of any length, and how far each may fall and rise."""

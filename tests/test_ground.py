@@ -1,0 +1,127 @@
+"""Point 2: what is handed in stays, what is told is the asker's own, and answers come soon."""
+
+import copy
+import itertools
+import time
+import unittest
+
+from tautroads.errors import RoadError
+from tautroads.heights import heights, shows_heights, shows_ring
+from tautroads.least import least, shows_least
+from tautroads.nets import is_way, length_of
+from tests.helpers import BAD_NETS, FAR, big_taut_nets, braid, small_nets, whole_ring
+
+WAYS = [[], [0], [1, 0], [-1], [0, 0, 0]]
+PAPERS = [("way", [0], [0, 0, 0]), ("way", [], [0]), ("none", [0, 1]), ("none", [1, 0])]
+
+
+def questions(net, one, other):
+    """Every question there is about a net, as a function and what it is handed."""
+    asked = [(heights, [net]), (least, [net, one, other])]
+    for way in WAYS:
+        asked.append((is_way, [net, one, other, way]))
+        asked.append((length_of, [net, one, other, way]))
+        asked.append((shows_heights, [net, way]))
+        asked.append((shows_ring, [net, way]))
+    for told in PAPERS:
+        asked.append((shows_least, [net, one, other, told]))
+    return asked
+
+
+def answer(ask, handed):
+    """What is told, or the class of the refusal."""
+    try:
+        return ask(*handed)
+    except RoadError as error:
+        return type(error)
+
+
+def lists_in(told):
+    if isinstance(told, tuple):
+        return [inner for part in told for inner in lists_in(part)]
+    if isinstance(told, list):
+        return [told] + [inner for part in told for inner in lists_in(part)]
+    return []
+
+
+def spoil(told):
+    for inner in lists_in(told):
+        inner.reverse()
+        inner.append(17)
+        inner[0] = -99
+
+
+def some_nets():
+    yield from itertools.islice(small_nets(), 0, None, 9)
+    yield from BAD_NETS
+    yield braid(FAR)
+    yield whole_ring(0)
+    yield whole_ring(-1)
+
+
+class Ground(unittest.TestCase):
+    def test_what_is_handed_in_is_not_changed(self):
+        for net in some_nets():
+            for one, other in ((0, 0), (0, 1), (1, 0), (-1, 2)):
+                for ask, handed in questions(net, one, other):
+                    kept = copy.deepcopy(handed)
+                    answer(ask, handed)
+                    self.assertEqual(handed, kept, ask)
+
+    def test_the_same_question_is_told_the_same_again(self):
+        for net in some_nets():
+            for one, other in ((0, 0), (0, 1), (1, 0)):
+                for ask, handed in questions(net, one, other):
+                    self.assertEqual(answer(ask, handed), answer(ask, copy.deepcopy(handed)))
+
+    def test_changing_what_was_told_changes_no_later_answer(self):
+        for net in some_nets():
+            for one, other in ((0, 0), (0, 1), (1, 0)):
+                for ask, handed in questions(net, one, other):
+                    kept = copy.deepcopy(handed)
+                    first = answer(ask, handed)
+                    same = copy.deepcopy(first)
+                    spoil(first)
+                    self.assertEqual(handed, kept)
+                    self.assertEqual(answer(ask, handed), same)
+
+    def test_changing_what_was_handed_in_changes_nothing_told(self):
+        for net in some_nets():
+            for one, other in ((0, 0), (0, 1), (1, 0)):
+                for ask, handed in questions(copy.deepcopy(net), one, other):
+                    mine = copy.deepcopy(handed)
+                    first = answer(ask, mine)
+                    same = copy.deepcopy(first)
+                    spoil(tuple(mine))
+                    self.assertEqual(first, same)
+
+    def test_no_list_stands_at_two_places_of_what_is_told(self):
+        for net in some_nets():
+            for one, other in ((0, 0), (0, 1), (1, 0)):
+                for ask, handed in questions(net, one, other):
+                    told = lists_in(answer(ask, handed))
+                    marks = {id(inner) for inner in told} | {id(inner) for inner in lists_in(tuple(handed))}
+                    self.assertEqual(len(marks), len(told) + len({id(inner) for inner in lists_in(tuple(handed))}))
+
+    def test_a_net_changed_between_is_looked_at_anew(self):
+        roads = [(0, 1, 5)]
+        net = (2, roads)
+        self.assertEqual(heights(net), ("heights", [0, 0]))
+        self.assertEqual(least(net, 0, 1)[1], [0])
+        roads.append((0, 1, -5))
+        self.assertEqual(heights(net), ("heights", [0, -5]))
+        self.assertEqual(least(net, 0, 1)[1], [1])
+        roads.append((1, 0, 4))
+        self.assertEqual(heights(net)[0], "ring")
+
+    def test_answers_come_soon(self):
+        start = time.perf_counter()
+        for net in list(big_taut_nets()) + [whole_ring(-1)]:
+            for one, other in ((0, 19), (19, 0), (7, 7)):
+                for ask, handed in questions(net, one, other):
+                    answer(ask, handed)
+        self.assertLess(time.perf_counter() - start, 30)
+
+
+if __name__ == "__main__":
+    unittest.main()

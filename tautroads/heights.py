@@ -1,5 +1,6 @@
 """Heights of a net, or a ring of length below 0, and the lookers of both."""
 
+from tautroads.errors import NoTaut
 from tautroads.nets import check_net, leads, way_length
 
 
@@ -61,6 +62,13 @@ def heights(net):
     if last is None:
         return ("heights", values)
     return ("ring", ring_behind(net, entries, last))
+
+
+def check_taut(net):
+    """Refuse a net with a ring of length below 0, one that was looked at already."""
+    values, entries, last = lower(net, [0] * net[0])
+    if last is not None:
+        raise NoTaut("the net has a ring of length below 0")
 
 
 def are_heights(net, told):

@@ -1,7 +1,6 @@
 """Least ways, with heights or a lot of places that show them, and their looker."""
 
-from tautroads.errors import NoTaut
-from tautroads.heights import are_heights, lower, way_back
+from tautroads.heights import are_heights, check_taut, lower, way_back
 from tautroads.nets import check_question, is_place, leads, way_length
 
 # A least way has at most 19 roads, so its length is within 19 * 10 ** 9 either way: a place that
@@ -22,25 +21,32 @@ def places_reached(net, one):
 
 
 def lower_from(net, one):
-    """Tell heights that are the least lengths from one wherever a way leads, and the entries behind them."""
+    """Tell heights that are the least lengths from one wherever a way leads, and the entries behind them.
+
+    The net is known to be taut.
+    """
     starts = [FAR] * net[0]
     starts[one] = 0
     values, entries, last = lower(net, starts)
-    if last is not None:
-        raise NoTaut("the net has a ring of length below 0")
     return values, entries
+
+
+def least_in(net, one, other):
+    """Tell what least tells, of a net that is known to be taut; from a place to itself the empty way."""
+    reached = places_reached(net, one)
+    if other not in reached:
+        return ("none", reached)
+    values, entries = lower_from(net, one)
+    if one == other:
+        return ("way", [], values)
+    return ("way", way_back(net, entries, one, other), values)
 
 
 def least(net, one, other):
     """Tell ("way", WAY, HEIGHTS), or ("none", LOT) where no way leads; refuse NoNet, NoPlace, then NoTaut."""
     check_question(net, one, other)
-    values, entries = lower_from(net, one)
-    reached = places_reached(net, one)
-    if other not in reached:
-        return ("none", reached)
-    if one == other:
-        return ("way", [], values)
-    return ("way", way_back(net, entries, one, other), values)
+    check_taut(net)
+    return least_in(net, one, other)
 
 
 def shows_way(net, one, other, way, told):

@@ -1,6 +1,6 @@
 """Nets, tuples (COUNT, ROADS), and the ways in them, lists of roads' numbers."""
 
-from tautroads.errors import NoNet, NoPlace, NoWay
+from tautroads.errors import NoNet, NoPlace, NoRoad, NoWay
 
 MOST_PLACES = 20
 MOST_ROADS = 60
@@ -31,6 +31,11 @@ def check_net(net):
 def check_place(net, number):
     if not is_place(net[0], number):
         raise NoPlace("the net has no place of this number")
+
+
+def check_road(net, number):
+    if not 0 <= number < len(net[1]):
+        raise NoRoad("the net has no road of this number")
 
 
 def check_question(net, one, other):

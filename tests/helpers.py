@@ -79,11 +79,20 @@ def small_nets():
         yield one_shorter(net, dice.randrange(len(net[1])))
 
 
-def one_shorter(net, number):
-    """The net with one road's length 1 less: a ring of just 0 by it becomes one of 1 below."""
+def fallen(net, number, much):
+    """The net with one road's length so much less."""
     count, roads = net
     start, end, length = roads[number]
-    return (count, roads[:number] + [(start, end, length - 1)] + roads[number + 1:])
+    return (count, roads[:number] + [(start, end, length - much)] + roads[number + 1:])
+
+
+def one_shorter(net, number):
+    """The net with one road's length 1 less: a ring of just 0 by it becomes one of 1 below."""
+    return fallen(net, number, 1)
+
+
+def net_without(net, number):
+    return (net[0], net[1][:number] + net[1][number + 1:])
 
 
 def chain(count, length):
@@ -104,6 +113,18 @@ def whole_ring(last):
     return (20, [(19, 0, last)] + roads[::-1] + [(18, 19, 0)])
 
 
+NOT_TAUT = [
+    (1, [(0, 0, -1)]),
+    (2, [(0, 1, 1), (1, 0, -2)]),
+    # The ring can't be come to, or nothing leads from it, or it is alone.
+    (3, [(0, 1, 1), (2, 2, -1), (2, 0, 5)]),
+    (3, [(0, 1, 1), (1, 2, 3), (2, 2, -1)]),
+    (4, [(0, 1, 1), (2, 3, FAR), (3, 2, -FAR), (3, 2, -FAR), (2, 3, FAR - 1)]),
+    whole_ring(-1),
+    (20, [(18, 19, FAR), (19, 18, -FAR), (19, 19, -1)]),
+]
+
+
 def big_taut_nets():
     dice = random.Random(60)
     yield (20, [])
@@ -115,6 +136,21 @@ def big_taut_nets():
     for slack in (0, 1, 1000, 10 ** 8):
         yield chance_taut_net(dice, 20, 60, 4 * 10 ** 8, slack)
         yield chance_taut_net(dice, 20, 30, 4 * 10 ** 8, slack)
+
+
+def middling_taut_nets():
+    """Nets of each number of places, with more roads than a slow search can go."""
+    dice = random.Random(9)
+    for count in range(1, 21):
+        for many in (count // 2, count, 2 * count, 3 * count):
+            for slack in (0, 3, 50):
+                yield chance_taut_net(dice, count, many, 9, slack)
+
+
+def small_taut_nets():
+    for net in small_nets():
+        if slow_taut(net):
+            yield net
 
 
 def slow_ways(net, one, most):
@@ -153,6 +189,34 @@ def slow_heights(net):
     """The least length of any way that ends at each place, in a taut net."""
     tables = [slow_least(net, one) for one in range(net[0])]
     return [min(row[place] for row in tables if place in row) for place in range(net[0])]
+
+
+def plain_table(net):
+    """The least length from each place to each, None for no way, in a taut net: each place may lie between."""
+    count, roads = net
+    rows = [[0 if one == other else None for other in range(count)] for one in range(count)]
+    for start, end, length in roads:
+        if rows[start][end] is None or length < rows[start][end]:
+            rows[start][end] = length
+    for between, one, other in itertools.product(range(count), repeat=3):
+        ahead, behind = rows[one][between], rows[between][other]
+        if ahead is not None and behind is not None:
+            if rows[one][other] is None or ahead + behind < rows[one][other]:
+                rows[one][other] = ahead + behind
+    return rows
+
+
+def plain_taut(net):
+    """A ring below 0 makes a place of it less than 0 far from itself."""
+    return all(row[place] == 0 for place, row in enumerate(plain_table(net)))
+
+
+def reached_by(net, one):
+    """The places come to from one, by adding the ends of roads until none is new."""
+    lot = {one}
+    for turn in range(net[0]):
+        lot |= {end for start, end, length in net[1] if start in lot}
+    return sorted(lot)
 
 
 def begins_nowhere_twice(net, way):

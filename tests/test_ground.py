@@ -6,13 +6,18 @@ import time
 import unittest
 
 from tautroads.errors import RoadError
+from tautroads.falls import fall
 from tautroads.heights import heights, shows_heights, shows_ring
 from tautroads.least import least, shows_least
 from tautroads.nets import is_way, length_of
-from tests.helpers import BAD_NETS, FAR, big_taut_nets, braid, small_nets, whole_ring
+from tautroads.shut import by, detours, needed, tight, without
+from tautroads.stops import best_order, counted, through
+from tautroads.tables import table, table_with, window
+from tests.helpers import BAD_NETS, FAR, big_taut_nets, braid, plain_table, small_nets, whole_ring
 
 WAYS = [[], [0], [1, 0], [-1], [0, 0, 0]]
 PAPERS = [("way", [0], [0, 0, 0]), ("way", [], [0]), ("none", [0, 1]), ("none", [1, 0])]
+NUMBERS = [-1, 0, 1, 40, 60]
 
 
 def questions(net, one, other):
@@ -25,7 +30,24 @@ def questions(net, one, other):
         asked.append((shows_ring, [net, way]))
     for told in PAPERS:
         asked.append((shows_least, [net, one, other, told]))
-    return asked
+    asked.append((table, [net]))
+    for ask in (window, tight, needed, detours):
+        asked.append((ask, [net, one, other]))
+    for number in NUMBERS:
+        asked.append((fall, [net, number]))
+        for ask in (by, without, counted):
+            asked.append((ask, [net, one, other, number]))
+    for stops in ([one], [one, other], [one, other, one, other, 0, one, other], [], [one] * 8):
+        asked.append((through, [net, stops]))
+        asked.append((best_order, [net, stops]))
+    return asked + table_questions(net, one, other)
+
+
+def table_questions(net, one, other):
+    """What is asked of a table is handed the table of a net that is one and is taut, not the net."""
+    if net in BAD_NETS or heights(net)[0] == "ring":
+        return []
+    return [(table_with, [plain_table(net), (one, other, length)]) for length in (-FAR, -1, 0, 1, FAR, FAR + 1)]
 
 
 def answer(ask, handed):
@@ -108,10 +130,19 @@ class Ground(unittest.TestCase):
         net = (2, roads)
         self.assertEqual(heights(net), ("heights", [0, 0]))
         self.assertEqual(least(net, 0, 1)[1], [0])
+        self.assertEqual(table(net), [[0, 5], [None, 0]])
+        self.assertEqual(fall(net, 0), ("free", [1]))
+        self.assertEqual(needed(net, 0, 1), [0])
         roads.append((0, 1, -5))
         self.assertEqual(heights(net), ("heights", [0, -5]))
         self.assertEqual(least(net, 0, 1)[1], [1])
-        roads.append((1, 0, 4))
+        self.assertEqual(table(net), [[0, -5], [None, 0]])
+        self.assertEqual(needed(net, 0, 1), [1])
+        self.assertEqual(through(net, [0, 1]), -5)
+        roads.append((1, 0, 5))
+        self.assertEqual(fall(net, 0)[1], 10)
+        self.assertEqual(counted(net, 0, 0, 2), (0, [1, 2]))
+        roads[2] = (1, 0, 4)
         self.assertEqual(heights(net)[0], "ring")
 
     def test_answers_come_soon(self):

@@ -24,6 +24,11 @@ BARRED_WORDS = re.compile(
     r"\b(type|typing|typing_extensions|enum|Enum|IntEnum|StrEnum|Flag|IntFlag|Generic|Protocol|ABC|ABCMeta|namedtuple|"
     r"NamedTuple|TypedDict|TYPE_CHECKING|abstractmethod)\b|dataclass|overload|contextmanager"
 )
+VALUE_METHODS = set(
+    "append clear copy count endswith extend find get index insert isalnum isalpha isdigit islower isspace isupper items "
+    "join keys ljust lower lstrip partition pop remove replace reverse rfind rjust rpartition rsplit rstrip setdefault "
+    "split splitlines startswith strip update upper values zfill bit_length sort".split()
+)
 BARRED_NODES = (
     ast.Global, ast.AsyncFunctionDef, ast.AsyncFor, ast.AsyncWith, ast.Await, ast.NamedExpr, ast.Import, ast.Div,
 )
@@ -88,6 +93,23 @@ class Language(unittest.TestCase):
                     self.assertEqual(node.level, 0, path)
                     self.assertTrue((PACKAGE.parent / (node.module.replace(".", "/") + ".py")).is_file(), (path, node.module))
                     self.assertNotIn("*", [alias.name for alias in node.names], path)
+
+    def test_no_file_imports_itself_through_others(self):
+        wanted = {
+            path.stem: {node.module.rpartition(".")[2] for node in tree.body if isinstance(node, ast.ImportFrom)}
+            for path, tree in trees()
+        }
+        for turn in wanted:
+            wanted = {name: found.union(*[wanted[other] for other in found]) for name, found in wanted.items()}
+        for name, found in wanted.items():
+            self.assertNotIn(name, found)
+
+    def test_only_methods_allowed_or_own(self):
+        own = {node.name for path, tree in trees() for node in ast.walk(tree) if isinstance(node, ast.FunctionDef)}
+        for path, tree in trees():
+            for node in ast.walk(tree):
+                if isinstance(node, ast.Call) and isinstance(node.func, ast.Attribute):
+                    self.assertIn(node.func.attr, VALUE_METHODS | own, (path, node.lineno))
 
     def test_names(self):
         for path, tree in trees():

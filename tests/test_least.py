@@ -6,28 +6,9 @@ import unittest
 from tautroads.errors import NoNet, NoPlace, NoTaut
 from tautroads.least import least, shows_least
 from tests.helpers import (
-    BAD_NETS, FAR, all_tiny_nets, begins_nowhere_twice, big_taut_nets, braid, broken_roads, chain,
-    ends_of, one_shorter, refused, slow_least, slow_taut, slow_ways, small_nets, sum_of, whole_ring,
+    BAD_NETS, FAR, NOT_TAUT, all_tiny_nets, begins_nowhere_twice, big_taut_nets, braid, broken_roads, chain,
+    ends_of, one_shorter, reached_by, refused, slow_least, slow_taut, slow_ways, small_nets, sum_of, whole_ring,
 )
-
-NOT_TAUT = [
-    (1, [(0, 0, -1)]),
-    (2, [(0, 1, 1), (1, 0, -2)]),
-    # The ring can't be come to, or nothing leads from it, or it is alone.
-    (3, [(0, 1, 1), (2, 2, -1), (2, 0, 5)]),
-    (3, [(0, 1, 1), (1, 2, 3), (2, 2, -1)]),
-    (4, [(0, 1, 1), (2, 3, FAR), (3, 2, -FAR), (3, 2, -FAR), (2, 3, FAR - 1)]),
-    whole_ring(-1),
-    (20, [(18, 19, FAR), (19, 18, -FAR), (19, 19, -1)]),
-]
-
-
-def reached_by(net, one):
-    """The places come to from one, by adding the ends of roads until none is new."""
-    lot = {one}
-    for turn in range(net[0]):
-        lot |= {end for start, end, length in net[1] if start in lot}
-    return sorted(lot)
 
 
 class Told(unittest.TestCase):

@@ -1,9 +1,19 @@
-"""Nets for the tests, and a plain slow search that the program is compared with."""
+"""Nets and books for the tests, and plain slow searches and a plain book that the program is compared with."""
 
 import itertools
 import random
+import string
+
+from tautroads.books import Book
+from tautroads.errors import Full, NoDeed, NoLength, NoName, NoPlace, NoRoad, Ring, RoadError, Twice
 
 FAR = 10 ** 9
+
+# The empty text, nine letters, great letters, figures, blanks, line ends, and the signs just beside a and z.
+NO_NAMES = [
+    "", "abcdefghi", "aaaaaaaaaaaaaaaaaaaaaaaa", "A", "Z", "aB", "Abc", "abcdefgH", "1", "0", "a1", "1a", "-1", " ", "a ",
+    " a", "a b", "\n", "a\n", "\na", "a\nb", "`", "{", "a{", "`a", "a-b", "a_b", "a:", "a > b", "~", "!",
+]
 
 # Each is just beyond one bound of point 4, or far beyond it.
 BAD_NETS = [
@@ -246,3 +256,251 @@ def refused(case, kind, call, *told):
     with case.assertRaises(kind) as caught:
         call(*told)
     case.assertIs(type(caught.exception), kind)
+
+
+def name_of(number):
+    """Names of two letters, in order as the numbers are."""
+    return string.ascii_lowercase[number // 26] + string.ascii_lowercase[number % 26]
+
+
+def book_of(places, roads):
+    """A book made by deeds of places' names and of tuples (name, one, other, length)."""
+    book = Book()
+    for name in places:
+        book.place(name)
+    for road in roads:
+        book.road(*road)
+    return book
+
+
+def book_of_net(net):
+    count, roads = net
+    rows = [(name_of(at), name_of(one), name_of(other), length) for at, (one, other, length) in enumerate(roads)]
+    return book_of([name_of(place) for place in range(count)], rows)
+
+
+def page_of(book):
+    """What stands in a book: its places' names, and a dict of its roads."""
+    return (book.places(), {name: book.ends(name) for name in book.roads()})
+
+
+def book_anew(page):
+    """A book that was never anything but this page, its names put in the other way about."""
+    places, roads = page
+    return book_of(sorted(places, reverse=True), [(name, *roads[name]) for name in sorted(roads, reverse=True)])
+
+
+def net_of_page(page):
+    places, roads = page
+    numbers = {name: number for number, name in enumerate(sorted(places))}
+    rows = [roads[name] for name in sorted(roads)]
+    return (len(places), [(numbers[one], numbers[other], length) for one, other, length in rows])
+
+
+def text_of_page(page):
+    places, roads = page
+    rows = sorted(places)
+    for name in sorted(roads):
+        one, other, length = roads[name]
+        rows.append(name + ": " + one + " > " + other + " " + str(length))
+    return "\n".join(rows)
+
+
+def walk(book, step):
+    """Take all steps that are not refused, and tell the page behind each."""
+    pages = []
+    while True:
+        try:
+            step()
+        except NoDeed:
+            return pages
+        pages.append(page_of(book))
+
+
+def deeds_in(book):
+    """The pages that back comes to, the page that stands, and the pages that again comes to; the book stays."""
+    here = page_of(book)
+    behind = walk(book, book.back)
+    ahead = walk(book, book.again)
+    for turn in ahead[len(behind):]:
+        book.back()
+    assert page_of(book) == here
+    assert ahead[:len(behind)] == (behind[::-1] + [here])[1:]
+    return (behind, here, ahead[len(behind):])
+
+
+def added(*lengths):
+    return None if None in lengths else sum(lengths)
+
+
+def plain_answers(page):
+    """All that is told of a book but its least ways, by plain tables, as a dict of what is asked."""
+    places, roads, net = sorted(page[0]), sorted(page[1]), net_of_page(page)
+    rows = plain_table(net)
+    less = [plain_table(net_without(net, at)) for at in range(len(roads))]
+    told = {("places",): places, ("roads",): roads, ("net",): net}
+    told["heights",] = [(name, min(row[at] for row in rows if row[at] is not None)) for at, name in enumerate(places)]
+    for name, (start, end, length) in zip(roads, net[1]):
+        told["ends", name] = page[1][name]
+        told["fall", name] = added(length, rows[end][start])
+    for (at, one), (to, other) in itertools.product(enumerate(places), repeat=2):
+        best = rows[at][to]
+        told["window", one, other] = (None if rows[to][at] is None else -rows[to][at], best)
+        tight, needed = [], []
+        for number, (name, (start, end, length)) in enumerate(zip(roads, net[1])):
+            through = told["by", one, other, name] = added(rows[at][start], length, rows[end][to])
+            around = told["without", one, other, name] = less[number][at][to]
+            tight += [name] if best is not None and through == best else []
+            needed += [name] if around != best else []
+        told["tight", one, other], told["needed", one, other] = tight, needed
+    return told
+
+
+def check_least(case, page, told, one, other, best):
+    """Check what a book tells as the least way from one place to another, best being its length."""
+    places, roads, net = sorted(page[0]), page[1], net_of_page(page)
+    case.assertIs(type(told), tuple)
+    if best is None:
+        case.assertEqual(told, ("none", [places[number] for number in reached_by(net, places.index(one))]))
+        return
+    kind, names, length = told
+    case.assertEqual(kind, "way")
+    case.assertIs(type(names), list)
+    case.assertEqual(length, best)
+    way = [sorted(roads).index(name) for name in names]
+    ends = ends_of(net, way) if way else (places.index(one), places.index(one))
+    case.assertEqual(ends, (places.index(one), places.index(other)))
+    case.assertTrue(begins_nowhere_twice(net, way))
+    case.assertEqual(sum_of(net, way), length)
+
+
+def check_book(case, book, page, step=1):
+    """Check that a book tells what it should, where this stands in it; only every so manieth question is asked."""
+    for (ask, *told), answer in itertools.islice(plain_answers(page).items(), 0, None, step):
+        case.assertEqual(getattr(book, ask)(*told), answer, (ask, told, page))
+        if ask == "window":
+            check_least(case, page, book.least(*told), *told, answer[1])
+
+
+def check_ring(case, names, roads):
+    """Check that the names are those of a ring below 0 of these roads, as a refusal tells it."""
+    case.assertIs(type(names), list)
+    case.assertGreater(len(names), 0)
+    ring = [roads[name] for name in names]
+    for at, road in enumerate(ring):
+        case.assertEqual(ring[at - 1][1], road[0], (names, roads))
+    case.assertEqual(len({road[0] for road in ring}), len(ring), (names, roads))
+    case.assertLess(sum(road[2] for road in ring), 0, (names, roads))
+
+
+class PlainBook:
+    """A book kept plainly: the pages of all deeds, whole. It tells the class of a refusal in the place of raising it."""
+
+    def __init__(self):
+        self.pages = [([], {})]
+        self.at = 0
+        # The page that the last deed would have led to; a ring that is told is one of it.
+        self.would = None
+
+    def page(self):
+        return self.pages[self.at]
+
+    def do(self, deed, *told):
+        if deed in ("back", "again"):
+            return self.move(-1 if deed == "back" else 1)
+        places, roads = list(self.page()[0]), dict(self.page()[1])
+        wrong = getattr(self, deed)(places, roads, *told)
+        if wrong is not None:
+            return wrong
+        self.would = (sorted(places), roads)
+        if len(places) > 20 or len(roads) > 60:
+            return Full
+        if not plain_taut(net_of_page(self.would)):
+            return Ring
+        self.pages = self.pages[:self.at + 1] + [self.would]
+        self.at += 1
+        return None
+
+    def move(self, step):
+        if not 0 <= self.at + step < len(self.pages):
+            return NoDeed
+        self.at += step
+        return None
+
+    def place(self, places, roads, name):
+        if name in NO_NAMES:
+            return NoName
+        if name in places:
+            return Twice
+        places.append(name)
+
+    def road(self, places, roads, name, one, other, length):
+        if name in NO_NAMES:
+            return NoName
+        if name in roads:
+            return Twice
+        if one not in places or other not in places:
+            return NoPlace
+        if abs(length) > FAR:
+            return NoLength
+        roads[name] = (one, other, length)
+
+    def away(self, places, roads, name):
+        if name not in places:
+            return NoPlace
+        places.remove(name)
+        for road in [road for road in roads if name in roads[road][:2]]:
+            del roads[road]
+
+    def out(self, places, roads, name):
+        if name not in roads:
+            return NoRoad
+        del roads[name]
+
+    def length(self, places, roads, name, number):
+        if name not in roads:
+            return NoRoad
+        if abs(number) > FAR:
+            return NoLength
+        roads[name] = (roads[name][0], roads[name][1], number)
+
+    def turn(self, places, roads, name):
+        if name not in roads:
+            return NoRoad
+        one, other, number = roads[name]
+        roads[name] = (other, one, number)
+
+    def pour(self, places, roads, book):
+        if set(roads) & set(book.page()[1]):
+            return Twice
+        places += [name for name in book.page()[0] if name not in places]
+        roads.update(book.page()[1])
+
+    def twin(self):
+        book = PlainBook()
+        book.pages, book.at = list(self.pages), self.at
+        return book
+
+
+def refusal_of(call, *told):
+    """The refusal that a call raises, or None."""
+    try:
+        call(*told)
+    except RoadError as error:
+        return error
+    return None
+
+
+def lists_in(told):
+    if isinstance(told, tuple):
+        return [inner for part in told for inner in lists_in(part)]
+    if isinstance(told, list):
+        return [told] + [inner for part in told for inner in lists_in(part)]
+    return []
+
+
+def spoil(told):
+    for inner in lists_in(told):
+        inner.reverse()
+        inner.append(17)
+        inner[0] = -99

@@ -13,7 +13,9 @@ from tautroads.nets import is_way, length_of
 from tautroads.shut import by, detours, needed, tight, without
 from tautroads.stops import best_order, counted, through
 from tautroads.tables import table, table_with, window
-from tests.helpers import BAD_NETS, FAR, big_taut_nets, braid, plain_table, small_nets, whole_ring
+from tests.helpers import (
+    BAD_NETS, FAR, big_taut_nets, braid, lists_in, plain_table, small_nets, spoil, whole_ring,
+)
 
 WAYS = [[], [0], [1, 0], [-1], [0, 0, 0]]
 PAPERS = [("way", [0], [0, 0, 0]), ("way", [], [0]), ("none", [0, 1]), ("none", [1, 0])]
@@ -56,21 +58,6 @@ def answer(ask, handed):
         return ask(*handed)
     except RoadError as error:
         return type(error)
-
-
-def lists_in(told):
-    if isinstance(told, tuple):
-        return [inner for part in told for inner in lists_in(part)]
-    if isinstance(told, list):
-        return [told] + [inner for part in told for inner in lists_in(part)]
-    return []
-
-
-def spoil(told):
-    for inner in lists_in(told):
-        inner.reverse()
-        inner.append(17)
-        inner[0] = -99
 
 
 def some_nets():

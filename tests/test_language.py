@@ -27,7 +27,7 @@ BARRED_WORDS = re.compile(
 VALUE_METHODS = set(
     "append clear copy count endswith extend find get index insert isalnum isalpha isdigit islower isspace isupper items "
     "join keys ljust lower lstrip partition pop remove replace reverse rfind rjust rpartition rsplit rstrip setdefault "
-    "split splitlines startswith strip update upper values zfill bit_length sort".split()
+    "split splitlines startswith strip update upper values zfill bit_length sort removeprefix removesuffix isdecimal".split()
 )
 BARRED_NODES = (
     ast.Global, ast.AsyncFunctionDef, ast.AsyncFor, ast.AsyncWith, ast.Await, ast.NamedExpr, ast.Import, ast.Div,
@@ -129,6 +129,33 @@ class Language(unittest.TestCase):
             for node in ast.walk(tree):
                 if isinstance(node, ast.Name) and hasattr(builtins, node.id):
                     self.assertIn(node.id, BUILTINS, (path, node.lineno))
+
+    def test_no_name_is_a_method_and_an_attribute(self):
+        methods, assigned, read = set(), set(), set()
+        for path, tree in trees():
+            for node in ast.walk(tree):
+                if isinstance(node, ast.ClassDef):
+                    methods |= {part.name for part in node.body if isinstance(part, ast.FunctionDef)}
+                    self.assertEqual(node.decorator_list, [], path)
+                elif isinstance(node, ast.Attribute):
+                    (assigned if isinstance(node.ctx, ast.Store) else read).add(node.attr)
+        self.assertEqual(methods & assigned, set())
+        self.assertEqual(read - assigned - methods - VALUE_METHODS, set())
+
+    def test_double_underscore_methods(self):
+        for path, tree in trees():
+            for node in ast.walk(tree):
+                if isinstance(node, ast.FunctionDef) and node.name.startswith("__"):
+                    self.assertIn(node.name, METHODS, path)
+
+    def test_raised_errors_are_made_on_the_spot(self):
+        for path, tree in trees():
+            for node in ast.walk(tree):
+                if isinstance(node, ast.Raise):
+                    self.assertIsInstance(node.exc, ast.Call, (path, node.lineno))
+                    self.assertIsInstance(node.exc.func, ast.Name, (path, node.lineno))
+                if isinstance(node, ast.ExceptHandler):
+                    self.assertIsNotNone(node.type, (path, node.lineno))
 
     def test_module_level_names_are_bound_once(self):
         for path, tree in trees():

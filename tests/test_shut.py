@@ -7,7 +7,7 @@ from tautroads.errors import NoNet, NoPlace, NoRoad, NoTaut
 from tautroads.least import shows_least
 from tautroads.shut import by, detours, needed, tight, without
 from tests.helpers import (
-    BAD_NETS, FAR, NOT_TAUT, begins_nowhere_twice, big_taut_nets, braid, broken_roads, chain, ends_of,
+    BAD_NETS, FAR, NOT_TAUT, added, begins_nowhere_twice, big_taut_nets, braid, broken_roads, chain, ends_of,
     middling_taut_nets, net_without, plain_table, reached_by, refused, slow_ways, small_taut_nets, sum_of, whole_ring,
 )
 
@@ -20,10 +20,6 @@ NET = (6, [
 
 def pairs(net):
     return itertools.product(range(net[0]), repeat=2)
-
-
-def added(*lengths):
-    return None if None in lengths else sum(lengths)
 
 
 def bigger_nets():

@@ -57,12 +57,13 @@ def deeds_of(desk):
 
 def walk_lines(desk, step):
     texts = []
-    while True:
+    for turn in range(3000):
         try:
             desk.say(step)
         except NoDeed:
             return texts
         texts.append(desk.say("text"))
+    raise AssertionError("there is no end of the steps")
 
 
 class DeskCase(unittest.TestCase):
@@ -298,10 +299,13 @@ class Refused(DeskCase):
             for number in [number for number in range(7) if number != many]:
                 lines.append(" ".join([word] + ["a"] * number))
                 lines.append(" ".join([word] + ["1"] * number))
-            for rest in ([] if many == 0 else [["1"] * many, ["a"] * (many - 1) + ["1"]]):
+            for rest in (["1"] * many, ["a"] * many, ["a"] * many + ["1"]):
                 lines += [" ".join([" " + word] + rest), " ".join([word + " "] + rest), " ".join([word] + rest + [""])]
-            if many == 0:
-                lines += [" " + word, word + " ", word + "  "]
+            # As many words as there should be, if empty ones counted.
+            for empty in itertools.product(("", "a", "1"), repeat=many):
+                if "" in empty:
+                    lines.append(" ".join([word, *empty]))
+            lines += [" " + word, word + " ", word + "  "]
             lines += [word.upper() + " a" * many, word + "s" + " a" * many if word + "s" not in WORDS else "x", "x" + word]
         for number in NO_NUMBERS:
             lines += ["road new a b " + number, "length ab " + number]
@@ -406,7 +410,7 @@ def number_or_none(number):
 class Rows(DeskCase):
     """Rows of lines by chance, the same ones in each run, beside books to which the same is done."""
 
-    NAMES = ["a", "b", "c", "p", "q", "A"]
+    NAMES = ["a", "b", "x", "p", "q", "A"]
 
     def chance_line(self, dice):
         word = dice.choice([*WORDS] + ["place", "road", "road", "road", "road", "length", "place", "turn"] * 2)
